@@ -1,0 +1,1 @@
+"""Documents laid out within a width."""
