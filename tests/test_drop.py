@@ -2,7 +2,8 @@
 
 import unittest
 
-from tests.helper import BLANK, GAP, HARD, LINE, SOFT, ask, drop, group, lay, named, put, row, text, told
+from tests.helper import (BLANK, GAP, HARD, HUGE, LINE, SOFT, ask, back, begin, drop, group, indented, lay, look, named,
+                          put, row, steps, text, told, written)
 from widthlayout.documents import make_document
 from widthlayout.reading import read_parts
 
@@ -42,6 +43,31 @@ class DropTest(unittest.TestCase):
         held.append(make_document(read_parts(HARD, 0), []))
         self.assertEqual(naming.row_numbers(), row(group(row(text("a"), LINE)), SOFT))
         self.assertFalse(naming.forced[0])
+
+    def test_laying_goes_on(self):
+        word = group(row(text("ab"), indented(2, row(LINE, text("cd"))), SOFT))
+        calls = [steps(2), look(), written(), steps(4), look(), written(), back(3), look(), steps(HUGE), look(),
+                 written()]
+        plain = ask(put(word), begin(4, 0), steps(1), *calls)[3:]
+        self.assertEqual(plain[-1], [7, 97, 98, 10, 32, 32, 99, 100])
+        self.assertEqual(ask(put(word), begin(4, 0), steps(1), drop(), *calls)[4:], plain)
+        # Another one with the same number, with more and with fewer parts.
+        for other in (HARD, row(*[text("zzz"), GAP] * 20)):
+            self.assertEqual(ask(put(word), begin(4, 0), steps(1), drop(), put(other), *calls)[5:], plain)
+            self.assertEqual(ask(put(word), begin(4, 0), drop(), put(other), steps(1), *calls)[5:], plain)
+        self.assertEqual(ask(put(BLANK), put(word), begin(4, 1), steps(1), drop(), drop(), *calls)[6:], plain)
+
+    def test_laying_of_one_that_names_another_goes_on(self):
+        word = group(row(text("ab"), LINE))
+        found = ask(put(word), put(row(named(0), named(0))), begin(9, 1), drop(), drop(), put(HARD), look(), steps(2),
+                    look(), steps(HUGE), written(), back(1), written())
+        self.assertEqual(found[6:], [[0, 0, 0, 0, 1, 6, 0, 0], [2, 2], [2, 0, 0, 0, 2, 6, 0, 1], [7, 0],
+                                     [5, 97, 98, 32, 97, 98], [8], [5, 97, 98, 32, 97, 98]])
+
+    def test_begin_behind_drop(self):
+        found = ask(put(text("ab")), begin(9, 0), steps(1), drop(), begin(9, 0), written(), put(text("c")), written(),
+                    begin(9, 0), written(), steps(1), written())
+        self.assertEqual(found[3:], [[0], [-2], [2, 97, 98], [0], [2, 97, 98], [1], [0], [1, 0], [1, 99]])
 
 
 if __name__ == "__main__":

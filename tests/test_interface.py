@@ -2,8 +2,8 @@
 
 import unittest
 
-from tests.helper import (BLANK, GAP, HARD, HUGE, LINE, SOFT, aligned, ask, drop, flat, group, groups, indented, lay,
-                          named, put, row, size, text, told)
+from tests.helper import (BLANK, FAR, GAP, HARD, HUGE, LINE, SOFT, aligned, ask, back, begin, drop, flat, group, groups,
+                          indented, lay, least, lines, look, named, put, row, size, steps, text, told, written)
 from widthlayout.desk import answers
 
 
@@ -24,6 +24,15 @@ def every_call():
             groups(1001, 1), groups(3, 3), drop(), told(1), told(0)]
 
 
+def every_other_call():
+    """What every_call leaves out: lines, least, and those of a laying under way."""
+    word = group(row(text("ab"), LINE, indented(2, aligned(text("cd"))), SOFT))
+    return [look(), written(), steps(1), back(0), begin(3, 0), put(word), lines(3, 0), lines(-1, 0), lines(3, 1),
+            least(0), least(1), begin(3, 0), look(), begin(5, 4), begin(1001, 0), steps(-1), steps(3), look(),
+            written(), back(4), back(-1), back(1), look(), drop(), put(HARD), steps(HUGE), look(), written(), back(2),
+            written(), lines(3, 0), begin(7, 0), look()]
+
+
 def joined(calls):
     return [number for call in calls for number in call]
 
@@ -34,56 +43,92 @@ class AnswersTest(unittest.TestCase):
         self.assertEqual(answers([0, 0]), [1, -1])
         self.assertEqual(answers([0, 3, 0, 1, 97, 2, 0, 3, 0, 4, 0, 5, 80, 0, 6, 80, 0, 1, 1]),
                          [1, 0, 4, 1, 0, 1, 97, 5, 1, 1, 1, 0, 0, 2, 1, 97, 4, 1, 1, 1, 97, 1, 0, 1, 0, 1, -9])
+        self.assertEqual(answers([0, 3, 0, 1, 97, 7, 80, 0, 8, 0, 9, 80, 0, 10, 1, 11, 12, 13, 1, 11, 12, 12]),
+                         [1, 0, 4, 1, 1, 0, 0, 1, 0, 1, 1, 2, 1, 0, 5, 1, 1, 0, 0, 0, 2, 1, 97, 1, 0,
+                          8, 0, 0, 0, 0, 1, 0, 0, 0, 1, 0, 1, 0])
 
     def test_any_call_first(self):
         for call, answer in ((put(BLANK), 0), (drop(), -9), (told(0), -2), (size(0), -2), (flat(0), -2),
-                             (lay(0, 0), -2), (groups(0, 0), -2)):
+                             (lay(0, 0), -2), (groups(0, 0), -2), (lines(0, 0), -2), (least(0), -2),
+                             (begin(0, 0), -2), (steps(0), -9), (look(), -9), (written(), -9), (back(0), -9)):
             self.assertEqual(answers(call), [1, answer])
 
+    def test_any_call_first_with_numbers_at_their_edges(self):
+        for number in FAR + (0, 1, 19, 20):
+            for call in (told(number), size(number), flat(number), least(number)):
+                self.assertEqual(answers(call), [1, -2])
+            for call in (steps(number), back(number)):
+                self.assertEqual(answers(call), [1, -9])
+            for w, answer in ((-HUGE, -3), (-1, -3), (0, -2), (1, -2), (999, -2), (1000, -2), (1001, -3), (HUGE, -3)):
+                for call in (lay(w, number), groups(w, number), lines(w, number), begin(w, number)):
+                    self.assertEqual(answers(call), [1, answer])
+
     def test_whole_numbers_alone(self):
-        given = answers(joined(every_call()))
-        self.assertIs(type(given), list)
-        self.assertEqual({type(number) for number in given}, {int})
+        for calls in (every_call(), every_other_call()):
+            given = answers(joined(calls))
+            self.assertIs(type(given), list)
+            self.assertEqual({type(number) for number in given}, {int})
 
     def test_handed_in_stays(self):
-        handed = joined(every_call())
-        before = list(handed)
-        given = answers(handed)
-        self.assertEqual(handed, before)
-        self.assertEqual(answers(ReadOnly(before)), given)
+        for calls in (every_call(), every_other_call()):
+            handed = joined(calls)
+            before = list(handed)
+            given = answers(handed)
+            self.assertEqual(handed, before)
+            self.assertEqual(answers(ReadOnly(before)), given)
 
     def test_answers_are_not_shared(self):
-        handed = joined(every_call())
-        first = answers(handed)
-        kept = list(first)
-        first.reverse()
-        first.append(0)
-        self.assertEqual(answers(handed), kept)
+        for calls in (every_call(), every_other_call()):
+            handed = joined(calls)
+            first = answers(handed)
+            kept = list(first)
+            first.reverse()
+            first.append(0)
+            self.assertEqual(answers(handed), kept)
 
     def test_nothing_is_kept(self):
         self.assertEqual(ask(put(BLANK), put(SOFT)), [[0], [1]])
         self.assertEqual(ask(told(0), put(GAP), told(0)), [[-2], [0], [1, 5]])
         self.assertEqual(ask(*every_call()), ask(*every_call()))
+        self.assertEqual(ask(put(BLANK), begin(5, 0), steps(1)), [[0], [1], [1, 0]])
+        self.assertEqual(ask(look(), written(), steps(1), back(0), begin(5, 0)), [[-9]] * 4 + [[-2]])
+        self.assertEqual(ask(*every_other_call()), ask(*every_other_call()))
 
 
 class RefusalsTest(unittest.TestCase):
     def test_object_is_as_it_was(self):
         word = group(row(text("ab"), LINE, text("cd")))
         deep = [9] * 39 + BLANK
-        steps = [put(word), put(row(named(0), text(";"))), told(1), size(1), flat(0), lay(5, 0), lay(5, 1),
+        asked = [put(word), put(row(named(0), text(";"))), told(1), size(1), flat(0), lay(5, 0), lay(5, 1),
                  groups(5, 1), put(deep), drop(), put(HARD), told(2), lay(4, 1), drop(), drop(), told(0)]
         refused = [(put([]), -1), (put([6, 2, 1]), -1), (put(row(named(0), [11])), -1), (put(row(*[BLANK] * 600)), -4),
                    (put([6, 1] * 30 + row(*[named(0)] * 200)), -4), (told(20), -2), (told(-1), -2), (size(HUGE), -2),
                    (flat(-HUGE), -2), (lay(-1, 0), -3), (lay(1001, 0), -3), (lay(5, 20), -2), (groups(1001, 0), -3),
-                   (groups(0, -1), -2)]
-        plain = ask(*steps)
+                   (groups(0, -1), -2), (lines(-1, 0), -3), (lines(0, 20), -2), (least(20), -2), (begin(1001, 0), -3),
+                   (begin(0, 20), -2), (steps(1), -9), (look(), -9), (written(), -9), (back(0), -9)]
+        plain = ask(*asked)
         for refusal, number in refused:
-            mixed = [steps[0]]
-            for step in steps[1:]:
-                mixed += [refusal, step]
+            mixed = [asked[0]]
+            for call in asked[1:]:
+                mixed += [refusal, call]
             found = ask(*mixed)
             self.assertEqual(found[::2], plain, refusal)
             self.assertEqual({tuple(answer) for answer in found[1::2]}, {(number,)}, refusal)
+
+    def test_laying_is_as_it_was(self):
+        word = group(row(text("ab"), LINE, text("cd")))
+        asked = [put(word), begin(4, 0), steps(3), look(), written(), steps(1), look(), back(2), look(), lay(4, 0),
+                 begin(5, 0), look(), steps(HUGE), look(), written(), drop(), look(), written()]
+        plain = ask(*asked)
+        for refusal, number in ((put([]), -1), (put(row(*[BLANK] * 600)), -4), (told(5), -2), (flat(5), -2),
+                                (lay(-1, 0), -3), (groups(5, 5), -2), (lines(1001, 0), -3), (least(-1), -2),
+                                (begin(-1, 0), -3), (begin(5, 5), -2), (steps(-1), -6), (back(-1), -6), (back(6), -6)):
+            mixed = [asked[0], asked[1]]
+            for call in asked[2:]:
+                mixed += [refusal, call]
+            found = ask(*mixed)
+            self.assertEqual(found[:2] + found[3::2], plain, refusal)
+            self.assertEqual({tuple(answer) for answer in found[2::2]}, {(number,)}, refusal)
 
     def test_drop_of_none(self):
         self.assertEqual(ask(drop(), drop(), put(BLANK), drop(), drop(), put(SOFT), told(0)),
@@ -135,6 +180,24 @@ class LargestTest(unittest.TestCase):
         found = ask(put(document), *[groups(999, 0)] * 10, groups(1000, 0))
         self.assertEqual(found[1:11], [[570] + [0] * 570] * 10)
         self.assertEqual(found[11], [570] + [1] * 570)
+
+    def test_steps_and_back_on_many_groups(self):
+        document = row(*[[9] * 38 + BLANK] * 15, [0, 1000] + [97] * 1000)
+        found = ask(put(document), begin(999, 0), steps(HUGE), *[back(1), steps(1)] * 12, *[back(0), look()] * 5,
+                    least(0), lines(999, 0), back(587))
+        self.assertEqual(found[2], [587, 0])
+        self.assertEqual(found[3:27], [[586], [1, 0]] * 12)
+        self.assertEqual(found[27:37], [[587], [587, 1000, 0, 0, 0]] * 5)
+        self.assertEqual(found[37:], [[1000], [1, 1000, 0, 0], [0]])
+
+    def test_steps_and_back_on_many_bytes(self):
+        thousand = [0, 1000] + [97] * 1000
+        farthest = row(*[named(0)] * 3, aligned(row(*[GAP, text("b")] * 296)))
+        found = ask(put(thousand), put(farthest), begin(80, 1), steps(HUGE),
+                    *[back(1), steps(1), look(), written()] * 8, lay(80, 1), lines(80, 1), back(598), steps(298))
+        self.assertEqual(found[3], [598, 0])
+        self.assertEqual(found[4:36], [[597], [1, 0], [598, 3001, 0, 0, 0], [-8]] * 8)
+        self.assertEqual(found[36:], [[-8], [593, 3000, 0, 0] + [0, 0, 0, 3001, 3000, 0] * 296, [0], [298, 300]])
 
 
 if __name__ == "__main__":

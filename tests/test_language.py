@@ -35,7 +35,18 @@ UNUSED = (
     "builtins compile copyright credits delattr dir eval exec exit gc getattr globals hasattr help id importlib "
     "license locals methodcaller os quit setattr super vars sys").split()
 
+KEYWORDS = {"sorted": ("key", "reverse"), "min": ("key", "default"), "max": ("key", "default"), "sum": ("start",),
+            "enumerate": ("start",), "zip": ("strict",)}
+
+WALKED = ("range", "enumerate", "zip", "reversed", "items", "keys", "values")
+WALKING = ("list", "tuple", "dict", "sorted", "sum", "any", "all", "enumerate", "zip", "min", "max", "join")
+
 PYTHONS_OWN = __builtins__ if isinstance(__builtins__, dict) else vars(__builtins__)
+
+
+def called_name(call):
+    """The name that is called, plain or behind a dot."""
+    return getattr(call.func, "id", None) or getattr(call.func, "attr", None)
 
 
 def bound_names(tree):
@@ -173,6 +184,53 @@ class LanguageTest(unittest.TestCase):
         for node, where in self.nodes(ast.Attribute):
             self.assertIn(node.attr, methods | values | set(METHODS), where)
             self.assertNotIn(node.attr, UNUSED, where)
+
+    def test_values_are_given_through_a_name(self):
+        for node, where in self.nodes(ast.Attribute):
+            if isinstance(node.ctx, ast.Store):
+                self.assertIsInstance(node.value, ast.Name, where)
+
+    def test_keywords(self):
+        for node, where in self.nodes(ast.Call):
+            for keyword in node.keywords:
+                self.assertIn(keyword.arg, KEYWORDS.get(called_name(node), ()), where)
+
+    def test_walked_at_once(self):
+        walked = []
+        for node, where in self.nodes(ast.For, ast.comprehension):
+            walked.append(node.iter)
+        for node, where in self.nodes(ast.Call):
+            if called_name(node) in WALKING:
+                walked += node.args
+        for node, where in self.nodes(ast.Call):
+            if called_name(node) in WALKED:
+                self.assertIn(node, walked, where)
+
+    def test_what_is_walked_is_not_changed(self):
+        changes = ("append", "clear", "extend", "insert", "pop", "remove", "reverse", "setdefault", "update")
+        for loop, where in self.nodes(ast.For):
+            names = {ast.unparse(node) for node in ast.walk(loop.iter) if isinstance(node, (ast.Name, ast.Attribute))}
+            for node in [inner for statement in loop.body for inner in ast.walk(statement)]:
+                if isinstance(node, ast.Call) and isinstance(node.func, ast.Attribute) and node.func.attr in changes:
+                    self.assertNotIn(ast.unparse(node.func.value), names, where)
+                if isinstance(node, ast.Subscript) and isinstance(node.ctx, ast.Store):
+                    self.assertNotIn(ast.unparse(node.value), names, where)
+
+    def test_texts_and_powers(self):
+        for node, where in self.nodes(ast.Constant):
+            if isinstance(node.value, str):
+                self.assertNotIn("%", node.value, where)
+        for node, where in self.nodes(ast.BinOp):
+            if isinstance(node.op, ast.Pow):
+                self.assertIn(getattr(node.right, "value", -1), range(65), where)
+        for node, where in self.nodes(ast.FormattedValue):
+            self.assertIsInstance(node.value, ast.Name, where)
+            self.assertIsNone(node.format_spec, where)
+
+    def test_beginnings_give_back_nothing(self):
+        for node, where in self.nodes(ast.FunctionDef):
+            if node.name == "__init__":
+                self.assertFalse([inner for inner in ast.walk(node) if isinstance(inner, ast.Return)], where)
 
 
 if __name__ == "__main__":

@@ -3,7 +3,7 @@
 import unittest
 
 from tests.helper import (BLANK, FAR, GAP, HARD, HUGE, LINE, MARKS, SOFT, aligned, ask, drop, flat_groups, group,
-                          groups, indented, laid, lay, named, put, row, text)
+                          groups, indented, laid, lay, long_document, named, put, row, text)
 
 A = text("a")
 B = text("b")
@@ -213,11 +213,6 @@ class GroupsTest(unittest.TestCase):
 
 
 class RefusalsTest(unittest.TestCase):
-    def long_document(self, last):
-        """18 lines that begin behind 1000 blanks, and so many bytes at the end of the last."""
-        lines = [part for count in range(18) for part in (HARD, B)]
-        return row([0, 1000] + [97] * 1000, aligned(row(*lines)), [0, last] + [99] * last)
-
     def test_width(self):
         for w in FAR + (1001, 1002):
             self.assertEqual(ask(put(A), lay(w, 0))[1], [-3], w)
@@ -232,10 +227,10 @@ class RefusalsTest(unittest.TestCase):
 
     def test_20000_bytes(self):
         for w in (0, 1000):
-            answer = ask(put(self.long_document(964)), lay(w, 0))[1]
+            answer = ask(put(long_document(964)), lay(w, 0))[1]
             self.assertEqual(answer[:3], [19, 1965, 20000])
             self.assertEqual(len(answer), 20003)
-            self.assertEqual(ask(put(self.long_document(965)), lay(w, 0))[1], [-8])
+            self.assertEqual(ask(put(long_document(965)), lay(w, 0))[1], [-8])
 
     def test_far_more_bytes(self):
         thousand = [0, 1000] + [97] * 1000
@@ -245,7 +240,7 @@ class RefusalsTest(unittest.TestCase):
         self.assertEqual(found[1:], [[1], [-8], [0], [2], [1, 1, 1, 97]])
 
     def test_which_refusal_is_first(self):
-        long = put(self.long_document(965))
+        long = put(long_document(965))
         self.assertEqual(ask(long, lay(1001, 0), lay(-1, 0), lay(HUGE, 1), lay(-1, -1), lay(1001, HUGE), lay(5, 1)),
                          [[0], [-3], [-3], [-3], [-3], [-3], [-2]])
 

@@ -2,10 +2,7 @@
 
 import unittest
 
-from tests.helper import ask, groups, lay, made_documents, put, text, told
-from widthlayout.documents import make_document
-from widthlayout.laying import Laying
-from widthlayout.reading import read_parts
+from tests.helper import HUGE, ask, begin, groups, lay, lines, look, made_documents, put, size, steps, text, told
 
 WIDTHS = (0, 1, 2, 3, 5, 8, 12, 17, 25, 40, 1000)
 
@@ -64,11 +61,11 @@ class Point12Test(unittest.TestCase):
         for document, width, laid, events in self.each():
             if not laid:
                 continue
-            lines = bytes(laid).split(b"\n")
-            self.assertTrue(lines[0] and lines[-1], (document, width))
-            for number, line in enumerate(lines):
-                self.assertFalse(line.endswith(b" "), (document, width))
-                self.assertTrue(line or lines[number - 1], (document, width))
+            pieces = bytes(laid).split(b"\n")
+            self.assertTrue(pieces[0] and pieces[-1], (document, width))
+            for number, piece in enumerate(pieces):
+                self.assertFalse(piece.endswith(b" "), (document, width))
+                self.assertTrue(piece or pieces[number - 1], (document, width))
 
     def test_texts_in_order(self):
         for document, width, laid, events in self.each():
@@ -105,16 +102,47 @@ class Point12Test(unittest.TestCase):
                 waiting = 0
         self.assertGreater(seen, 500)
 
-    def test_as_many_steps_as_parts(self):
-        for row in made_documents(100) + [[9] * 39 + [1], [6, 599] + [3] * 599, [6, 0], text("a")]:
-            document = make_document(read_parts(row, 0), [])
+    def test_long_lines_have_no_flat_breaks_by_lines(self):
+        long_ones = flat_ones = 0
+        for document in made_documents(400):
+            found = ask(put(document), *[lines(width, 0) for width in WIDTHS])
+            for width, answer in zip(WIDTHS, found[1:], strict=True):
+                for place in range(1, len(answer), 3):
+                    length, flat_breaks = answer[place], answer[place + 2]
+                    self.assertTrue(length <= width or flat_breaks == 0, (document, width))
+                    long_ones += 1 if length > width else 0
+                    flat_ones += 1 if flat_breaks else 0
+        self.assertGreater(min(long_ones, flat_ones), 500)
+
+
+class StepsTest(unittest.TestCase):
+    def documents(self):
+        return made_documents(100) + [[9] * 39 + [1], [6, 599] + [3] * 599, [6, 0], text("a"), [7, 8] * 39 + [5]]
+
+    def test_as_many_as_parts(self):
+        for document in self.documents():
+            count = ask(put(document), size(0))[1][0]
             for width in WIDTHS:
-                laying = Laying(document, width, False)
-                steps = 0
-                while laying.commands:
-                    laying.step()
-                    steps += 1
-                self.assertEqual(steps, ask(put(row), told(0))[1][0], row)
+                found = ask(put(document), begin(width, 0), steps(count - 1), steps(1), steps(1), look())
+                self.assertEqual(found[2][0], count - 1, (document, width))
+                self.assertGreater(found[2][1], 0, (document, width))
+                self.assertEqual(found[3:5], [[1, 0], [0, 0]], (document, width))
+                self.assertEqual((found[5][0], found[5][4], len(found[5])), (count, 0, 5), (document, width))
+                found = ask(put(document), begin(width, 0), steps(HUGE), look())
+                self.assertEqual((found[2], found[3][0]), ([count, 0], count), (document, width))
+
+    def test_step_by_step(self):
+        for document in made_documents(100):
+            count = ask(put(document), size(0))[1][0]
+            for width in (0, 3, 8, 25):
+                looks = []
+                # 18 steps with their looks in one list of calls.
+                for before in range(0, count, 18):
+                    looks += ask(put(document), begin(width, 0), steps(before), *[steps(1), look()] * 18)[4::2]
+                self.assertEqual([found[0] for found in looks[:count]], list(range(1, count + 1)), (document, width))
+                self.assertTrue(all(found[4] > 0 for found in looks[:count - 1]), (document, width))
+                self.assertTrue(all(found == looks[count - 1] for found in looks[count:]), (document, width))
+                self.assertEqual(looks[count - 1][4], 0, (document, width))
 
 
 if __name__ == "__main__":

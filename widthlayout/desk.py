@@ -1,8 +1,7 @@
-"""The calls: a desk holds documents, and answers each call by a list of whole numbers."""
+"""The calls: a desk holds documents and perhaps a laying, and answers each call by a list of whole numbers."""
 
 from widthlayout.documents import make_document
-from widthlayout.kinds import BREAK_BYTE
-from widthlayout.laying import Laying
+from widthlayout.laying import Laying, lay_out, least_width
 from widthlayout.reading import read_parts
 
 PUT = 0
@@ -11,15 +10,23 @@ TOLD = 2
 SIZE = 3
 FLAT = 4
 LAY = 5
+GROUPS = 6
+LINES = 7
+LEAST = 8
+BEGIN = 9
+STEPS = 10
+LOOK = 11
+WRITTEN = 12
 
 # How many whole numbers each call is given, by its number; a put has a row instead.
-GIVEN = (0, 0, 1, 1, 1, 2, 2)
+GIVEN = (0, 0, 1, 1, 1, 2, 2, 2, 1, 2, 1, 0, 0, 1)
 
 NO_ROW = -1
 NO_DOCUMENT = -2
 NO_WIDTH = -3
 TOO_LARGE = -4
 FULL = -5
+NO_COUNT = -6
 FORCED = -7
 TOO_LONG = -8
 NOTHING_THERE = -9
@@ -29,27 +36,11 @@ MOST_WIDTH = 1000
 MOST_WRITTEN = 20000
 
 
-def line_lengths(written):
-    if not written:
-        return []
-    lengths = [0]
-    for byte in written:
-        if byte == BREAK_BYTE:
-            lengths.append(0)
-        else:
-            lengths[-1] += 1
-    return lengths
-
-
-def lay_out(document, width, flat):
-    laying = Laying(document, width, flat)
-    laying.finish()
-    return laying
-
-
 class Desk:
     def __init__(self):
         self.documents = []
+        # None stands for no laying under way.
+        self.laying = None
 
     def answer(self, call):
         if call[0] == PUT:
@@ -64,7 +55,21 @@ class Desk:
             return self.answer_flat(call[1])
         if call[0] == LAY:
             return self.answer_lay(call[1], call[2])
-        return self.answer_groups(call[1], call[2])
+        if call[0] == GROUPS:
+            return self.answer_groups(call[1], call[2])
+        if call[0] == LINES:
+            return self.answer_lines(call[1], call[2])
+        if call[0] == LEAST:
+            return self.answer_least(call[1])
+        if call[0] == BEGIN:
+            return self.answer_begin(call[1], call[2])
+        if call[0] == STEPS:
+            return self.answer_steps(call[1])
+        if call[0] == LOOK:
+            return self.answer_look()
+        if call[0] == WRITTEN:
+            return self.answer_written()
+        return self.answer_back(call[1])
 
     def answer_put(self, row):
         parts = read_parts(row, len(self.documents))
@@ -121,11 +126,11 @@ class Desk:
         refusal = self.laying_refusal(w, k)
         if refusal is not None:
             return [refusal]
-        written = lay_out(self.documents[k], w, False).written
-        if len(written) > MOST_WRITTEN:
+        laying = lay_out(self.documents[k], w, False)
+        if len(laying.written) > MOST_WRITTEN:
             return [TOO_LONG]
-        lengths = line_lengths(written)
-        return [len(lengths), max(lengths, default=0), len(written)] + written
+        lines = laying.lines
+        return [len(lines.found), lines.greatest_length(), len(laying.written)] + laying.written
 
     def answer_groups(self, w, k):
         refusal = self.laying_refusal(w, k)
@@ -133,6 +138,61 @@ class Desk:
             return [refusal]
         flat_groups = lay_out(self.documents[k], w, False).flat_groups
         return [len(flat_groups)] + flat_groups
+
+    def answer_lines(self, w, k):
+        refusal = self.laying_refusal(w, k)
+        if refusal is not None:
+            return [refusal]
+        lines = lay_out(self.documents[k], w, False).lines
+        return [len(lines.found)] + lines.told_numbers()
+
+    def answer_least(self, k):
+        if not self.holds(k):
+            return [NO_DOCUMENT]
+        return [least_width(self.documents[k])]
+
+    def answer_begin(self, w, k):
+        refusal = self.laying_refusal(w, k)
+        if refusal is not None:
+            return [refusal]
+        # The laying keeps the document itself, so that it goes on when that is dropped.
+        self.laying = Laying(self.documents[k], w, False)
+        return [len(self.laying.commands)]
+
+    def answer_steps(self, n):
+        if self.laying is None:
+            return [NOTHING_THERE]
+        if n < 0:
+            return [NO_COUNT]
+        before = self.laying.taken
+        self.laying.advance(n)
+        return [self.laying.taken - before, len(self.laying.commands)]
+
+    def answer_look(self):
+        laying = self.laying
+        if laying is None:
+            return [NOTHING_THERE]
+        pen = laying.pen
+        return [laying.taken, pen.column, pen.held, pen.held_indent, len(laying.commands)] + laying.tell_first()
+
+    def answer_written(self):
+        if self.laying is None:
+            return [NOTHING_THERE]
+        written = self.laying.written
+        if len(written) > MOST_WRITTEN:
+            return [TOO_LONG]
+        return [len(written)] + written
+
+    def answer_back(self, n):
+        laying = self.laying
+        if laying is None:
+            return [NOTHING_THERE]
+        if not 0 <= n <= laying.taken:
+            return [NO_COUNT]
+        # The same steps always come to the same, so the ones that stay are taken anew.
+        self.laying = Laying(laying.document, laying.width, False)
+        self.laying.advance(laying.taken - n)
+        return [self.laying.taken]
 
 
 def call_length(calls, place):

@@ -1,64 +1,8 @@
 """Laying a document within a width, step by step."""
 
-from widthlayout.kinds import ALIGNED, BLANK, BLANK_BYTE, BREAK_BYTE, GAP, GROUP, HARD, INDENTED, LINE, SOFT, TEXT
-
-HELD_NOTHING = 0
-HELD_BLANK = 1
-HELD_BREAK = 2
-HELD_EMPTY_LINE = 3
-
-
-# The column and what is held: apart from what is written, so that a thought needs no copy of that.
-# Where no break and no empty line is held, the held indentation is 0.
-class Pen:
-    def __init__(self, column, held, held_indent):
-        self.column = column
-        self.held = held
-        self.held_indent = held_indent
-
-    def another(self):
-        return Pen(self.column, self.held, self.held_indent)
-
-    def hold(self, held, indent):
-        self.held = held
-        self.held_indent = indent
-
-    def take_blank(self):
-        if self.held == HELD_NOTHING and self.column != 0:
-            self.hold(HELD_BLANK, 0)
-
-    def take_break(self, indent):
-        if self.column == 0:
-            return
-        if self.held == HELD_EMPTY_LINE:
-            self.hold(HELD_EMPTY_LINE, indent)
-        else:
-            self.hold(HELD_BREAK, indent)
-
-    def take_gap(self, indent):
-        if self.column != 0:
-            self.hold(HELD_EMPTY_LINE, indent)
-
-    def take_text(self, size):
-        self.column = self.text_column() + size
-        self.hold(HELD_NOTHING, 0)
-
-    def text_column(self):
-        if self.held == HELD_NOTHING:
-            return self.column
-        if self.held == HELD_BLANK:
-            return self.column + 1
-        return self.held_indent
-
-    def held_bytes(self):
-        if self.held == HELD_NOTHING:
-            return []
-        if self.held == HELD_BLANK:
-            return [BLANK_BYTE]
-        blanks = [BLANK_BYTE] * self.held_indent
-        if self.held == HELD_BREAK:
-            return [BREAK_BYTE] + blanks
-        return [BREAK_BYTE, BREAK_BYTE] + blanks
+from widthlayout.kinds import ALIGNED, BLANK, GAP, GROUP, HARD, INDENTED, LINE, SOFT, TEXT
+from widthlayout.lines import Lines
+from widthlayout.pen import HELD_NOTHING, Pen
 
 
 # The document is told by its place among the parts.
@@ -70,13 +14,17 @@ class Command:
 
 
 # flat_groups has 1 for a flat group and 0 for a broken one, in the order in which steps came to them.
+# The width None stands for one within which every group fits.
 class Laying:
     def __init__(self, document, width, flat):
         self.document = document
         self.width = width
         self.pen = Pen(0, HELD_NOTHING, 0)
         self.written = []
+        self.lines = Lines()
         self.flat_groups = []
+        self.greatest_reach = 0
+        self.taken = 0
         # The first command stands last, so that taking it moves no other.
         self.commands = [Command(0, 0, flat)]
 
@@ -84,7 +32,20 @@ class Laying:
         while self.commands:
             self.step()
 
+    def advance(self, count):
+        end = self.taken + count
+        while self.commands and self.taken < end:
+            self.step()
+
+    # Kind, indentation, and 1 if it's flat of the first command; empty if none is left.
+    def tell_first(self):
+        if not self.commands:
+            return []
+        first = self.commands[-1]
+        return [self.document.parts[first.place].kind, first.indent, 1 if first.flat else 0]
+
     def step(self):
+        self.taken += 1
         command = self.commands.pop()
         part = self.document.parts[command.place]
         if part.kind == TEXT:
@@ -103,9 +64,12 @@ class Laying:
     def write(self, text):
         self.written.extend(self.pen.held_bytes())
         self.written.extend(text)
+        self.lines.take_text(self.pen.held_breaks(), self.pen.text_column(), len(text))
         self.pen.take_text(len(text))
 
     def step_mark(self, kind, command):
+        if command.flat and kind in (SOFT, LINE):
+            self.lines.take_flat_break()
         if kind == BLANK or (kind == LINE and command.flat):
             self.pen.take_blank()
         elif kind == GAP:
@@ -123,22 +87,40 @@ class Laying:
         for place in reversed(self.document.inner_places(command.place)):
             self.commands.append(Command(place, indent, flat))
 
+    def fits(self, place):
+        reach = self.find_reach(place)
+        self.greatest_reach = max(self.greatest_reach, reach)
+        return self.width is None or reach <= self.width
+
+    # The greatest column behind a text that's written in thought, which is that of the last one: the thought ends
+    # ahead of every new break. 0 if there's none, so that the group fits whatever the width.
     # Asked only of a group that is not forced and whose command is not flat. Steps come to the parts in their
     # order, so the thought walks on through them. None behind the group is flat then: flat commands come only
-    # from a flat one, and all of these are taken before the next that is not flat. Indentation plays no part,
-    # since the thought ends ahead of the first new break.
-    def fits(self, place):
+    # from a flat one, and all of these are taken before the next that is not flat.
+    def find_reach(self, place):
         parts = self.document.parts
         behind = place + self.document.spans[place]
         pen = self.pen.another()
+        reach = 0
         for spot in range(place + 1, len(parts)):
             kind = parts[spot].kind
             if kind == TEXT:
                 pen.take_text(parts[spot].number)
-                if pen.column > self.width:
-                    return False
+                reach = pen.column
             elif spot >= behind and kind in (SOFT, LINE, HARD, GAP):
-                return True
+                break
             elif kind in (BLANK, LINE):
                 pen.take_blank()
-        return True
+        return reach
+
+
+def lay_out(document, width, flat):
+    laying = Laying(document, width, flat)
+    laying.finish()
+    return laying
+
+
+# If every group that can be flat is flat, a group fits within just those widths that its reach doesn't pass.
+# Within a lesser width the first group whose reach passes it is broken, since all before it are still flat.
+def least_width(document):
+    return lay_out(document, None, False).greatest_reach
