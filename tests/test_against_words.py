@@ -10,6 +10,21 @@ from tests.helper import (BLANK, GAP, HARD, LINE, SOFT, Words, aligned, ask, bac
 WIDTHS = (0, 1, 2, 3, 4, 6, 9, 13, 20, 31, 60)
 
 
+def stretched(numbers):
+    """The same document with 80 times as many bytes in each text."""
+    longer = []
+    place = 0
+    while place < len(numbers):
+        behind = place + (2 if numbers[place] in (6, 7) else 1)
+        if numbers[place] == 0:
+            behind = place + 2 + numbers[place + 1]
+            longer += [0, 80 * numbers[place + 1]] + numbers[place + 2:behind] * 80
+        else:
+            longer += numbers[place:behind]
+        place = behind
+    return longer
+
+
 class AgainstWordsTest(unittest.TestCase):
     def check(self, numbers, widths):
         document = tree(numbers)[0]
@@ -60,6 +75,19 @@ class LeastAgainstWordsTest(unittest.TestCase):
             while not self.all_flat(document, width):
                 width += 1
             self.assertEqual(ask(put(numbers), least(0))[1], [width], numbers)
+
+    def test_above_1000(self):
+        seen = 0
+        for numbers in made_documents(300):
+            long_one = stretched(numbers)
+            if len(long_one) > 3000:
+                continue
+            document = tree(long_one)[0]
+            width = ask(put(long_one), least(0))[1][0]
+            self.assertTrue(self.all_flat(document, width), numbers)
+            self.assertFalse(width > 0 and self.all_flat(document, width - 1), numbers)
+            seen += 1 if width > 1000 else 0
+        self.assertGreater(seen, 50)
 
 
 class StepsAgainstWordsTest(unittest.TestCase):
